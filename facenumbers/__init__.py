@@ -1,0 +1,1 @@
+"""How many faces simplicial polytopes have, in exact fractions."""

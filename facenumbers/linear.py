@@ -1,0 +1,80 @@
+"""Linear equations and determinants in whole numbers, without any fraction."""
+
+from math import gcd
+
+
+def primitive(numbers):
+    """The numbers, not all 0, without their greatest common divisor."""
+    common = 0
+    for number in numbers:
+        common = gcd(common, number)
+    return [number // common for number in numbers]
+
+
+def pivot_row(rows, first, column):
+    """The first row, from the told one on, that is not 0 in the column; None if there is none."""
+    for at in range(first, len(rows)):
+        if rows[at][column] != 0:
+            return at
+    return None
+
+
+def swept(rows, at, column, divisor):
+    """The rows, with noughts in the column but for the row at which the pivot stands.
+
+    The divisor is the pivot ahead. All numbers are minors of the first rows (Bareiss),
+    so the divisions leave nothing over, and the numbers stay as short as minors are.
+    """
+    chosen = rows[at]
+    pivot = chosen[column]
+    found = []
+    for row in rows:
+        factor = row[column]
+        found.append([(pivot * one - factor * two) // divisor for one, two in zip(row, chosen)])
+    found[at] = chosen
+    return found
+
+
+def reduced(rows, width):
+    """A triple: the rows solved for their pivot columns, these columns, and the divisor.
+
+    Row K has the divisor in the K-th pivot column, where all other rows have 0. Each
+    column that is no pivot is spanned by those ahead of it.
+    """
+    rows = [list(row) for row in rows]
+    pivots = []
+    divisor = 1
+    for column in range(width):
+        at = len(pivots)
+        chosen = pivot_row(rows, at, column)
+        if chosen is not None:
+            rows[at], rows[chosen] = rows[chosen], rows[at]
+            rows = swept(rows, at, column, divisor)
+            divisor = rows[at][column]
+            pivots.append(column)
+    return rows[:len(pivots)], pivots, divisor
+
+
+def kernel(rows, width):
+    """A basis, in primitive whole numbers, of what each row is perpendicular to."""
+    solved, pivots, divisor = reduced(rows, width)
+    basis = []
+    for free in range(width):
+        if free not in pivots:
+            vector = [0] * width
+            vector[free] = divisor
+            for row, pivot in zip(solved, pivots):
+                vector[pivot] = -row[free]
+            basis.append(primitive(vector))
+    return basis
+
+
+def determinant(rows):
+    # By the first row: what is asked for has three rows at most.
+    if len(rows) == 0:
+        return 1
+    total = 0
+    for at, number in enumerate(rows[0]):
+        lesser = determinant([row[:at] + row[at + 1:] for row in rows[1:]])
+        total += -number * lesser if at % 2 == 1 else number * lesser
+    return total

@@ -1,0 +1,72 @@
+"""What counts as a number, a ratio, a point, a row or a set, whatever the value is."""
+
+from math import gcd
+
+LEAST_DIMENSION = 2
+GREATEST_DIMENSION = 7
+MOST_POINTS_BEYOND = 4
+RATIO_LIMIT = 10 ** 40 - 1
+ROW_LIMIT = 10 ** 9
+
+
+def is_whole(value):
+    # Python takes True and False for ints; here they are no numbers.
+    return isinstance(value, int) and not isinstance(value, bool)
+
+
+def is_whole_between(value, low, high):
+    return is_whole(value) and low <= value <= high
+
+
+def is_tuple_of_length(value, many):
+    return isinstance(value, tuple) and len(value) == many
+
+
+def is_dimension(value):
+    return is_whole_between(value, LEAST_DIMENSION, GREATEST_DIMENSION)
+
+
+def is_told_ratio(value):
+    if not is_tuple_of_length(value, 2):
+        return False
+    over, under = value
+    return (
+        is_whole_between(over, -RATIO_LIMIT, RATIO_LIMIT)
+        and is_whole_between(under, 1, RATIO_LIMIT)
+        and gcd(over, under) == 1
+    )
+
+
+def is_point(value, dimension):
+    return is_tuple_of_length(value, dimension) and all([is_told_ratio(ratio) for ratio in value])
+
+
+def has_polytope_form(value):
+    """Whether the value is a dimension and so many points of it, wherever these lie."""
+    if not is_tuple_of_length(value, 2):
+        return False
+    dimension, points = value
+    return (
+        is_dimension(dimension)
+        and isinstance(points, tuple)
+        and dimension + 1 <= len(points) <= dimension + MOST_POINTS_BEYOND
+        and all([is_point(point, dimension) for point in points])
+    )
+
+
+def is_index_set(value, many):
+    """Whether the value is an ascending tuple of indexes of so many points."""
+    if not isinstance(value, tuple):
+        return False
+    least = 0
+    for index in value:
+        if not is_whole_between(index, least, many - 1):
+            return False
+        least = index + 1
+    return True
+
+
+def is_row(value, dimension):
+    return is_tuple_of_length(value, dimension) and all(
+        [is_whole_between(number, -ROW_LIMIT, ROW_LIMIT) for number in value]
+    )

@@ -1,0 +1,119 @@
+"""Some rules of LANGUAGE.md that a test can see, for every file of the package."""
+
+import ast
+import builtins
+import os
+import unittest
+
+PACKAGE = "facenumbers"
+FOLDER = os.path.join(os.path.dirname(os.path.dirname(os.path.abspath(__file__))), PACKAGE)
+BUILTINS = set(
+    "len range enumerate zip min max sum abs sorted reversed int str bool list tuple dict set isinstance ord repr "
+    "any all divmod map iter next Exception ValueError TypeError KeyError IndexError LookupError "
+    "ZeroDivisionError ArithmeticError OverflowError RuntimeError NotImplementedError".split()
+)
+LIBRARY = {
+    "heapq": {"heappush", "heappop", "heapify", "heapreplace", "heappushpop"},
+    "math": {"gcd", "lcm", "isqrt", "comb", "perm", "factorial"},
+    "itertools": {"product", "combinations", "permutations", "chain", "accumulate", "pairwise", "islice", "zip_longest"},
+    "collections": {"defaultdict", "deque"},
+}
+METHODS = set(
+    "append clear copy count endswith extend find get index insert isalnum isalpha isdigit islower isspace isupper "
+    "items join keys ljust lower lstrip partition pop remove replace reverse rfind rjust rpartition rsplit rstrip "
+    "setdefault split splitlines startswith strip update upper values zfill bit_length add discard sort __init__".split()
+)
+BARRED = (ast.Div, ast.Global, ast.AsyncFunctionDef, ast.Await, ast.Starred, ast.Set)
+
+
+def sources():
+    for name in sorted(os.listdir(FOLDER)):
+        if name != "__pycache__":
+            with open(os.path.join(FOLDER, name), "rb") as file:
+                yield name, file.read()
+
+
+def trees():
+    return {name[:-3]: ast.parse(source) for name, source in sources()}
+
+
+def bound_names(tree):
+    """Names that a file gives a meaning, its imports left out."""
+    for node in ast.walk(tree):
+        if isinstance(node, (ast.FunctionDef, ast.ClassDef)):
+            yield node.name
+        elif isinstance(node, ast.arg):
+            yield node.arg
+        elif isinstance(node, ast.Name) and isinstance(node.ctx, ast.Store):
+            yield node.id
+
+
+class Language(unittest.TestCase):
+    def test_files_and_sizes(self):
+        for name, source in sources():
+            self.assertRegex(name, r"^[a-z_]+\.py$")
+            lines = source.decode("ascii").split("\n")
+            self.assertLessEqual(len(lines), 399, name)
+            self.assertLessEqual(max(len(line) for line in lines), 120, name)
+            self.assertTrue(all(sign == "\n" or " " <= sign <= "~" for sign in source.decode("ascii")), name)
+            for node in ast.walk(ast.parse(source)):
+                if isinstance(node, ast.FunctionDef):
+                    self.assertLessEqual(node.end_lineno - node.lineno + 1, 40, (name, node.name))
+
+    def test_imports(self):
+        own = {name: {node.name for node in tree.body if isinstance(node, (ast.FunctionDef, ast.ClassDef))}
+               | {target.id for node in tree.body if isinstance(node, ast.Assign) for target in node.targets}
+               for name, tree in trees().items()}
+        ahead = {}
+        for name, tree in trees().items():
+            ahead[name] = set()
+            for node in ast.walk(tree):
+                self.assertNotIsInstance(node, ast.Import, name)
+                if isinstance(node, ast.ImportFrom):
+                    told = {alias.name for alias in node.names}
+                    self.assertEqual(node.level, 0)
+                    if node.module in LIBRARY:
+                        self.assertLessEqual(told, LIBRARY[node.module], name)
+                    else:
+                        package, module = node.module.split(".")
+                        self.assertEqual(package, PACKAGE)
+                        self.assertLessEqual(told, own[module], (name, module))
+                        ahead[name].add(module)
+        while ahead:
+            free = [name for name, modules in ahead.items() if not modules & set(ahead)]
+            self.assertTrue(free, f"files import from each other: {sorted(ahead)}")
+            ahead = {name: modules for name, modules in ahead.items() if name not in free}
+
+    def test_builtins(self):
+        for name, tree in trees().items():
+            bound = set(bound_names(tree))
+            self.assertEqual(bound & set(dir(builtins)), set(), name)
+            used = {node.id for node in ast.walk(tree) if isinstance(node, ast.Name)}
+            self.assertLessEqual(used & set(dir(builtins)), BUILTINS, name)
+
+    def test_methods(self):
+        own = {node.name for tree in trees().values() for node in ast.walk(tree) if isinstance(node, ast.FunctionDef)}
+        for name, tree in trees().items():
+            for node in ast.walk(tree):
+                if isinstance(node, ast.Call) and isinstance(node.func, ast.Attribute):
+                    self.assertIn(node.func.attr, METHODS | own, name)
+
+    def test_signs(self):
+        for name, tree in trees().items():
+            for node in ast.walk(tree):
+                self.assertNotIsInstance(node, BARRED, name)
+                if isinstance(node, ast.Constant):
+                    self.assertNotIsInstance(node.value, (float, complex), name)
+                if isinstance(node, ast.FunctionDef):
+                    self.assertEqual(node.decorator_list, [], name)
+
+    def test_module_level(self):
+        for name, tree in trees().items():
+            for place, node in enumerate(tree.body):
+                docstring = place == 0 and isinstance(node, ast.Expr) and isinstance(node.value, ast.Constant)
+                allowed = (ast.ImportFrom, ast.FunctionDef, ast.ClassDef, ast.Assign)
+                self.assertTrue(docstring or isinstance(node, allowed), (name, node.lineno))
+
+
+if __name__ == "__main__":
+    unittest.main()
