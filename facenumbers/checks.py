@@ -1,8 +1,13 @@
 """Arguments that several modules check alike."""
 
-from facenumbers.errors import InvalidFace, InvalidNumber, InvalidPolytope, InvalidRow
+from facenumbers.errors import InvalidFace, InvalidNumber, InvalidPolytope, InvalidRow, InvalidSequence
 from facenumbers.hulls import facets_or_none
-from facenumbers.values import is_dimension, is_index_set, is_row, is_whole_between
+from facenumbers.values import (
+    MOST_POINTS_BEYOND, is_dimension, is_index_set, is_row, is_whole_between,
+)
+
+MOST_NUMBERS = 8
+SEQUENCE_LIMIT = 10 ** 6
 
 
 def checked_facets(polytope):
@@ -23,11 +28,34 @@ def check_number(number, low, high):
         raise InvalidNumber(number)
 
 
+def check_points(dimension, points):
+    check_number(points, dimension + 1, dimension + MOST_POINTS_BEYOND)
+
+
 def check_row(dimension, row):
     if not is_row(row, dimension):
+        raise InvalidRow(row)
+
+
+def check_wanted_row(dimension, row):
+    """A row that a polytope could have, as far as its number of points is concerned."""
+    check_row(dimension, row)
+    if not dimension + 1 <= row[0] <= dimension + MOST_POINTS_BEYOND:
         raise InvalidRow(row)
 
 
 def check_face(polytope, face):
     if not is_index_set(face, len(polytope[1])):
         raise InvalidFace(face)
+
+
+def check_sequence(sequence):
+    if not isinstance(sequence, tuple) or not 1 <= len(sequence) <= MOST_NUMBERS:
+        raise InvalidSequence(None)
+    check_all_between(sequence, -SEQUENCE_LIMIT, SEQUENCE_LIMIT)
+
+
+def check_all_between(sequence, low, high):
+    for index, number in enumerate(sequence):
+        if not is_whole_between(number, low, high):
+            raise InvalidSequence(index)

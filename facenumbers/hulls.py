@@ -1,18 +1,22 @@
 """The facets of points, found among the few points that a facet leaves out."""
 
 from itertools import combinations
-from math import lcm
 
 from facenumbers.linear import determinant, kernel
+from facenumbers.ratios import common_under, multiplied
 from facenumbers.values import has_polytope_form
 
 
 def homogeneous(point):
     """Whole numbers: a factor above 0, and the point's worths times this factor."""
-    factor = 1
-    for _, under in point:
-        factor = lcm(factor, under)
-    return [factor] + [over * (factor // under) for over, under in point]
+    factor = common_under(point)
+    return [factor] + multiplied(point, factor)
+
+
+def equations_of(points):
+    """What the dependences are perpendicular to, the points taken with factors above 0."""
+    columns = [homogeneous(point) for point in points]
+    return [[column[at] for column in columns] for at in range(len(columns[0]))]
 
 
 def lots(many, size):
@@ -26,9 +30,7 @@ def gale_vectors(dimension, points):
     None if the points lie in one hyperplane. That the points are taken with factors
     above 0 changes no sign.
     """
-    columns = [homogeneous(point) for point in points]
-    equations = [[column[at] for column in columns] for at in range(dimension + 1)]
-    basis = kernel(equations, len(points))
+    basis = kernel(equations_of(points), len(points))
     if len(basis) != len(points) - dimension - 1:
         return None
     return [[vector[index] for vector in basis] for index in range(len(points))]

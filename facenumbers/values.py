@@ -1,4 +1,4 @@
-"""What counts as a number, a ratio, a point, a row or a set, whatever the value is."""
+"""What counts as a number, a ratio, a point, a set, a monomial or a row, whatever the value is."""
 
 from math import gcd
 
@@ -26,15 +26,15 @@ def is_dimension(value):
     return is_whole_between(value, LEAST_DIMENSION, GREATEST_DIMENSION)
 
 
-def is_told_ratio(value):
+def is_ratio(value):
     if not is_tuple_of_length(value, 2):
         return False
     over, under = value
-    return (
-        is_whole_between(over, -RATIO_LIMIT, RATIO_LIMIT)
-        and is_whole_between(under, 1, RATIO_LIMIT)
-        and gcd(over, under) == 1
-    )
+    return is_whole(over) and is_whole(under) and under >= 1 and gcd(over, under) == 1
+
+
+def is_told_ratio(value):
+    return is_ratio(value) and abs(value[0]) <= RATIO_LIMIT and value[1] <= RATIO_LIMIT
 
 
 def is_point(value, dimension):
@@ -63,6 +63,18 @@ def is_index_set(value, many):
         if not is_whole_between(index, least, many - 1):
             return False
         least = index + 1
+    return True
+
+
+def is_monomial(value, variables):
+    """Whether the value is a monomial of any degree in so many variables."""
+    if not isinstance(value, tuple):
+        return False
+    least = 1
+    for variable in value:
+        if not is_whole_between(variable, least, variables):
+            return False
+        least = variable
     return True
 
 

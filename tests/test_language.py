@@ -26,6 +26,14 @@ METHODS = set(
     "items join keys ljust lower lstrip partition pop remove replace reverse rfind rjust rpartition rsplit rstrip "
     "setdefault split splitlines startswith strip update upper values zfill bit_length add discard sort __init__".split()
 )
+ONCE = {"zip", "enumerate", "reversed", "range", "combinations", "product", "permutations", "chain", "map"}
+VIEWS = {"items", "keys", "values"}
+TAKING = {"list", "tuple", "dict", "sorted", "sum", "any", "all", "enumerate", "zip", "min", "max", "combinations"}
+WORDS = set(
+    "type typing typing_extensions enum Enum IntEnum StrEnum Flag IntFlag Generic Protocol ABC ABCMeta namedtuple "
+    "NamedTuple TypedDict TYPE_CHECKING abstractmethod dataclass overload contextmanager register mro elements open "
+    "input law version_info with_traceback add_note".split()
+)
 BARRED = (ast.Div, ast.AsyncFunctionDef, ast.AsyncFor, ast.AsyncWith, ast.Await)
 
 
@@ -115,6 +123,51 @@ class Language(unittest.TestCase):
                 allowed = (ast.ImportFrom, ast.FunctionDef, ast.ClassDef, ast.Assign)
                 self.assertTrue(docstring or isinstance(node, allowed), (name, node.lineno))
                 self.assertEqual(getattr(node, "decorator_list", []), [], name)
+
+
+    def test_no_name_of_an_import_or_a_class_has_another_meaning(self):
+        for name, tree in trees().items():
+            taken = {alias.name for node in ast.walk(tree) if isinstance(node, ast.ImportFrom) for alias in node.names}
+            bound = list(bound_names(tree))
+            classes = {node.name for node in ast.walk(tree) if isinstance(node, ast.ClassDef)}
+            self.assertEqual(taken & set(bound), set(), name)
+            self.assertTrue(all(bound.count(one) == 1 for one in classes), name)
+
+    def test_words(self):
+        for name, tree in trees().items():
+            used = {getattr(node, field) for node in ast.walk(tree) for field in ("id", "attr", "arg", "name")
+                    if isinstance(getattr(node, field, None), str)}
+            self.assertEqual(used & WORDS, set(), name)
+            for node in ast.walk(tree):
+                if isinstance(node, ast.Name) and node.id == "_":
+                    self.assertIsInstance(node.ctx, ast.Store, (name, node.lineno))
+
+    def test_exponents(self):
+        for name, tree in trees().items():
+            for node in ast.walk(tree):
+                if isinstance(node, ast.BinOp) and isinstance(node.op, ast.Pow):
+                    self.assertIsInstance(node.right, ast.Constant, (name, node.lineno))
+                    self.assertIn(node.right.value, range(65))
+
+    def test_what_is_iterated_at_once(self):
+        for name, tree in trees().items():
+            at_once = set()
+            for node in ast.walk(tree):
+                if isinstance(node, (ast.For, ast.comprehension)):
+                    at_once.add(node.iter)
+                elif isinstance(node, ast.Call) and isinstance(node.func, ast.Name) and node.func.id in TAKING:
+                    at_once.update(node.args)
+            for node in ast.walk(tree):
+                if isinstance(node, ast.Call):
+                    told = getattr(node.func, "id", None) in ONCE or getattr(node.func, "attr", None) in VIEWS
+                    self.assertTrue(not told or node in at_once, (name, node.lineno))
+
+    def test_sets_are_not_iterated(self):
+        for name, tree in trees().items():
+            for node in ast.walk(tree):
+                if isinstance(node, (ast.For, ast.comprehension)):
+                    self.assertNotIsInstance(node.iter, (ast.Set, ast.SetComp), (name, node.iter.lineno))
+                    self.assertNotEqual(getattr(getattr(node.iter, "func", None), "id", None), "set", name)
 
 
 if __name__ == "__main__":
