@@ -46,7 +46,7 @@ class Sessions(unittest.TestCase):
 
     def test_of_the_document(self):
         with open(SESSIONS, encoding="ascii") as file:
-            self.as_told(file.read(), 31)
+            self.as_told(file.read(), 44)
 
     def test_of_the_readme(self):
         with open(README, encoding="ascii") as file:
