@@ -2,6 +2,8 @@
 
 from math import gcd
 
+PRIME = 2 ** 61 - 1
+
 
 def primitive(numbers):
     """The numbers, not all 0, without their greatest common divisor."""
@@ -53,6 +55,27 @@ def reduced(rows, width):
             divisor = rows[at][column]
             pivots.append(column)
     return rows[:len(pivots)], pivots, divisor
+
+
+def is_full_modulo_prime(rows, width):
+    """Whether the rows have the rank width modulo a prime: then they have it in any case.
+
+    This takes little time even for numbers of thousands of figures. Where it is not so,
+    nothing is said.
+    """
+    rows = [[number % PRIME for number in row] for row in rows]
+    for column in range(width):
+        at = pivot_row(rows, column, column)
+        if at is None:
+            return False
+        rows[column], rows[at] = rows[at], rows[column]
+        chosen = rows[column]
+        for below in range(column + 1, len(rows)):
+            factor = rows[below][column]
+            rows[below] = [
+                (chosen[column] * one - factor * two) % PRIME for one, two in zip(rows[below], chosen)
+            ]
+    return True
 
 
 def kernel(rows, width):

@@ -4,7 +4,7 @@ from facenumbers.checks import check_number, checked_facets
 from facenumbers.errors import InvalidMonomial
 from facenumbers.forms import base_and_free, forms_with, product_of_forms, times_monomial
 from facenumbers.hulls import missing_with
-from facenumbers.linear import primitive, reduced
+from facenumbers.linear import is_full_modulo_prime, primitive, reduced
 from facenumbers.monomials import monomials
 from facenumbers.ratios import common_under, lowest, multiplied
 from facenumbers.values import is_monomial
@@ -44,7 +44,8 @@ def told_by(polytope, monomial):
     half = polytope[0] // 2
     if not is_monomial(monomial, variables_of(polytope)) or len(monomial) > half:
         raise InvalidMonomial(monomial)
-    order, solved, spanned, divisor = solved_ring(polytope, facets, len(monomial))
+    order, rows = relation_rows(polytope, facets, len(monomial))
+    solved, spanned, divisor = reduced(rows, len(order))
     column = order.index(monomial)
     if column not in spanned:
         return ((monomial, (1, 1)),)
@@ -55,7 +56,10 @@ def told_by(polytope, monomial):
 
 
 def taken_of_degree(polytope, facets, degree):
-    order, _, spanned, _ = solved_ring(polytope, facets, degree)
+    order, rows = relation_rows(polytope, facets, degree)
+    if is_full_modulo_prime(rows, len(order)):
+        return []
+    spanned = reduced(rows, len(order))[1]
     return [order[at] for at in range(len(order)) if at not in spanned][::-1]
 
 
@@ -63,17 +67,15 @@ def variables_of(polytope):
     return len(polytope[1]) - polytope[0] - 1
 
 
-def solved_ring(polytope, facets, degree):
-    """The monomials of the degree, the last one first, and the relations solved for the first ones.
+def relation_rows(polytope, facets, degree):
+    """The monomials of the degree, the last one in order first, and each relation's factors at them.
 
-    So each relation tells a monomial by those ahead of it in order: the pivots are the
-    monomials that are sums of those ahead.
+    So the rows, solved, have their pivots at the monomials that are sums of those ahead of
+    them in order, and tell these sums.
     """
     order = monomials(variables_of(polytope), degree)[::-1]
     relations = relations_of(polytope, facets, degree)
-    rows = [primitive([relation.get(monomial, 0) for monomial in order]) for relation in relations]
-    solved, spanned, divisor = reduced(rows, len(order))
-    return order, solved, spanned, divisor
+    return order, [primitive([relation.get(monomial, 0) for monomial in order]) for relation in relations]
 
 
 def relations_of(polytope, facets, degree):

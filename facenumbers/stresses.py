@@ -42,7 +42,7 @@ def stresses_of(polytope):
         for one, two in missing + faces_with(facets, 2)
     ]
     degree_two = monomials(len(points) - dimension - 1, 2)
-    rows = [[polynomial.get(monomial, 0) for polynomial in products] for monomial in degree_two]
+    rows = [[polynomial[monomial] for polynomial in products] for monomial in degree_two]
     solved, pivots, divisor = reduced(rows, len(products))
     return tuple([
         tuple([lowest(number, divisor) for number in row[len(missing):]])

@@ -5,7 +5,7 @@ import unittest
 from fractions import Fraction
 from math import gcd
 
-from facenumbers.linear import determinant, kernel, reduced
+from facenumbers.linear import PRIME, determinant, is_full_modulo_prime, kernel, reduced
 from tests import examples
 
 
@@ -51,6 +51,29 @@ class Equations(unittest.TestCase):
                     self.assertEqual(sum(one * two for one, two in zip(row, vector)), 0)
             if basis:
                 self.assertEqual(examples.rank([[Fraction(number) for number in row] for row in basis]), len(basis))
+
+
+class FullRank(unittest.TestCase):
+    def test_by_hand(self):
+        self.assertIs(is_full_modulo_prime([[1, 2], [3, 4]], 2), True)
+        self.assertIs(is_full_modulo_prime([[0, 2], [3, 0], [0, 0]], 2), True)
+        self.assertIs(is_full_modulo_prime([[1, 2], [2, 4]], 2), False)
+        self.assertIs(is_full_modulo_prime([[1, 2]], 2), False)
+        self.assertIs(is_full_modulo_prime([], 1), False)
+        self.assertIs(is_full_modulo_prime([], 0), True)
+
+    def test_nothing_is_said_of_what_the_prime_divides(self):
+        self.assertIs(is_full_modulo_prime([[PRIME, 0], [0, 1]], 2), False)
+
+    def test_as_the_rank(self):
+        answers = set()
+        for rows, width in random_matrices(4, 400):
+            before = [list(row) for row in rows]
+            said = is_full_modulo_prime(rows, width)
+            self.assertEqual(rows, before)
+            self.assertIs(said, examples.rank([[Fraction(number) for number in row] for row in rows]) == width)
+            answers.add(said)
+        self.assertEqual(answers, {True, False})
 
 
 class Determinants(unittest.TestCase):
