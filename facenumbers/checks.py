@@ -49,6 +49,20 @@ def check_face(polytope, face):
         raise InvalidFace(face)
 
 
+def check_facet(polytope, facets, facet):
+    # A set first: (0, True) is equal to (0, 1), but none.
+    check_face(polytope, facet)
+    if facet not in facets:
+        raise InvalidFace(facet)
+
+
+def check_lacking_face(polytope, face):
+    """A set that lacks some point."""
+    check_face(polytope, face)
+    if len(face) == len(polytope[1]):
+        raise InvalidFace(face)
+
+
 def check_sequence(sequence):
     if not isinstance(sequence, tuple) or not 1 <= len(sequence) <= MOST_NUMBERS:
         raise InvalidSequence(None)

@@ -97,13 +97,36 @@ def missing_with(facets, points, many):
     ]
 
 
-def facet_inequality(polytope, facet):
-    """The inequality of what surely is a facet of a polytope."""
+def is_part(face, facet):
+    return all([index in facet for index in face])
+
+
+def parts_of(face, many):
+    """All parts of so many points, ascending."""
+    row = list(face)
+    return list(combinations(row, many))
+
+
+def height_at(function, point):
+    """What an affine function in whole numbers is at the point, taken with a factor above 0."""
+    return sum([one * two for one, two in zip(function, homogeneous(point))])
+
+
+def facet_function(polytope, facet):
+    """The affine function that is 0 at a facet's points and above 0 at all others.
+
+    It is told in whole numbers without a common divisor above 1.
+    """
     dimension, points = polytope
     function = kernel([homogeneous(points[index]) for index in facet], dimension + 1)[0]
     # All other points lie on one side, so the first one tells which.
     other = [index for index in range(len(points)) if index not in facet][0]
-    height = sum([one * two for one, two in zip(function, homogeneous(points[other]))])
-    if height > 0:
-        function = [-number for number in function]
-    return tuple(function[1:]), -function[0]
+    if height_at(function, points[other]) < 0:
+        return [-number for number in function]
+    return function
+
+
+def facet_inequality(polytope, facet):
+    """The inequality of what surely is a facet of a polytope."""
+    function = facet_function(polytope, facet)
+    return tuple([-number for number in function[1:]]), function[0]

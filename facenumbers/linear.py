@@ -101,3 +101,10 @@ def determinant(rows):
         lesser = determinant([row[:at] + row[at + 1:] for row in rows[1:]])
         total += -number * lesser if at % 2 == 1 else number * lesser
     return total
+
+
+def determinant_size(rows):
+    """The determinant, without its sign, of as many rows as they have numbers."""
+    _, pivots, divisor = reduced(rows, len(rows))
+    # All numbers are minors, so the last pivot is the greatest one.
+    return abs(divisor) if len(pivots) == len(rows) else 0

@@ -1,8 +1,7 @@
 """Polytopes: their facets, inequalities, faces and missing faces."""
 
-from facenumbers.checks import check_face, check_number, checked_facets
-from facenumbers.errors import InvalidFace
-from facenumbers.hulls import facet_inequality, faces_with, facets_or_none, missing_with
+from facenumbers.checks import check_face, check_facet, check_number, checked_facets
+from facenumbers.hulls import facet_inequality, faces_with, facets_or_none, is_part, missing_with
 
 
 def is_polytope(value):
@@ -17,11 +16,7 @@ def facets_of(polytope):
 
 def inequality_of(polytope, facet):
     """The pair (A, B): A's sum for a point is B in the facet's hyperplane, else below."""
-    facets = checked_facets(polytope)
-    # A set first: (0, True) is equal to (0, 1), but none.
-    check_face(polytope, facet)
-    if facet not in facets:
-        raise InvalidFace(facet)
+    check_facet(polytope, checked_facets(polytope), facet)
     return facet_inequality(polytope, facet)
 
 
@@ -29,7 +24,7 @@ def is_face(polytope, face):
     """Whether a set of indexes is part of a facet."""
     facets = checked_facets(polytope)
     check_face(polytope, face)
-    return any([all([index in facet for index in face]) for facet in facets])
+    return any([is_part(face, facet) for facet in facets])
 
 
 def faces_of(polytope, many):

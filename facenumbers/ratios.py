@@ -22,3 +22,13 @@ def common_under(ratios):
 def multiplied(ratios, factor):
     """The ratios as whole numbers, taken so many times as makes each of them whole."""
     return [over * (factor // under) for over, under in ratios]
+
+
+def whole_numbers(ratios):
+    """The ratios as whole numbers, taken with the least factor from 1 on that makes them whole."""
+    return multiplied(ratios, common_under(ratios))
+
+
+def sum_of(ratios):
+    factor = common_under(ratios)
+    return lowest(sum(multiplied(ratios, factor)), factor)

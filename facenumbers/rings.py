@@ -6,7 +6,7 @@ from facenumbers.forms import base_and_free, forms_with, product_of_forms, times
 from facenumbers.hulls import missing_with
 from facenumbers.linear import is_full_modulo_prime, primitive, reduced
 from facenumbers.monomials import monomials
-from facenumbers.ratios import common_under, lowest, multiplied
+from facenumbers.ratios import lowest, whole_numbers
 from facenumbers.values import is_monomial
 
 
@@ -93,4 +93,4 @@ def relations_of(polytope, facets, degree):
 
 def whole_form(form):
     # A factor at a form is one at its relations, and these are taken any ratio times.
-    return primitive(multiplied(form, common_under(form)))
+    return primitive(whole_numbers(form))

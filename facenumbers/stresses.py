@@ -1,13 +1,14 @@
 """Stresses: what a polytope's edges bear while its points stay where they are."""
 
+from facenumbers.affine import coordinates_of, dependence_vectors
 from facenumbers.checks import checked_facets
 from facenumbers.errors import InvalidPolytope
 from facenumbers.forms import product_of_forms
-from facenumbers.hulls import equations_of, faces_with, gale_vectors, missing_with
+from facenumbers.hulls import faces_with, missing_with
 from facenumbers.linear import reduced
 from facenumbers.monomials import monomials
-from facenumbers.ratios import common_under, lowest, multiplied
-from facenumbers.values import is_ratio, is_tuple_of_length
+from facenumbers.ratios import lowest, whole_numbers
+from facenumbers.values import is_tuple_of_ratios
 
 
 def edges_of(polytope):
@@ -18,11 +19,9 @@ def edges_of(polytope):
 def is_stress(polytope, value):
     """Whether the value, whatever it is, is a stress."""
     edges = faces_with(checked_solid(polytope), 2)
-    if not is_tuple_of_length(value, len(edges)) or not all([is_ratio(part) for part in value]):
+    if not is_tuple_of_ratios(value, len(edges)):
         return False
-    # A factor at all ratios, or at all numbers of one coordinate, changes no nought.
-    stress = multiplied(value, common_under(value))
-    return all([is_balanced(edges, stress, numbers) for numbers in coordinates_of(polytope)])
+    return not any([any(totals) for totals in totals_with(polytope, edges, value)])
 
 
 def stresses_of(polytope):
@@ -59,28 +58,18 @@ def checked_solid(polytope):
     return facets
 
 
-def coordinates_of(polytope):
-    """For each coordinate whole numbers, what the points have there times one factor."""
-    found = []
-    for at in range(polytope[0]):
-        ratios = [point[at] for point in polytope[1]]
-        found.append(multiplied(ratios, common_under(ratios)))
-    return found
+def totals_with(polytope, edges, ratios):
+    """For each coordinate whole numbers, 0 at just the points at which the ratios' sum is nought."""
+    # A factor at all ratios, or at all numbers of one coordinate, changes no nought.
+    stress = whole_numbers(ratios)
+    return [totals_of(edges, stress, numbers) for numbers in coordinates_of(polytope[1])]
 
 
-def is_balanced(edges, stress, numbers):
-    """Whether at each point the stressed ways to the others add up to nought in a coordinate."""
+def totals_of(edges, stress, numbers):
+    """For each point the sum of the stressed ways to the others, in the coordinate of the numbers."""
     totals = [0] * len(numbers)
     for (one, two), part in zip(edges, stress):
         way = part * (numbers[two] - numbers[one])
         totals[one] += way
         totals[two] -= way
-    return not any(totals)
-
-
-def dependence_vectors(dimension, points):
-    """For each point its whole numbers in a basis of the dependences."""
-    # The hull's vectors are those of the points taken with factors: the signs alone mattered there.
-    factors = equations_of(points)[0]
-    vectors = gale_vectors(dimension, points)
-    return [[factor * number for number in vector] for factor, vector in zip(factors, vectors)]
+    return totals

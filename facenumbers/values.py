@@ -5,6 +5,7 @@ from math import gcd
 LEAST_DIMENSION = 2
 GREATEST_DIMENSION = 7
 MOST_POINTS_BEYOND = 4
+MOST_FIGURES = 40
 RATIO_LIMIT = 10 ** 40 - 1
 ROW_LIMIT = 10 ** 9
 
@@ -31,6 +32,10 @@ def is_ratio(value):
         return False
     over, under = value
     return is_whole(over) and is_whole(under) and under >= 1 and gcd(over, under) == 1
+
+
+def is_tuple_of_ratios(value, many):
+    return is_tuple_of_length(value, many) and all([is_ratio(part) for part in value])
 
 
 def is_told_ratio(value):

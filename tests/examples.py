@@ -77,6 +77,48 @@ def some_polytopes():
     return found
 
 
+def shuffled(value, seed):
+    """The polytope with its points in another order."""
+    points = list(value[1])
+    random.Random(seed).shuffle(points)
+    return (value[0], tuple(points))
+
+
+def stretched(value, factor, way):
+    """The polytope, each point taken so many times and moved by the same number in each coordinate."""
+    return pointed(value[0], [[number * factor + way for number in point] for point in worths(value)])
+
+
+def sheared(value, factor):
+    """The polytope, to whose first coordinate the last one is added so many times."""
+    return pointed(value[0], [[point[0] + factor * point[-1]] + point[1:] for point in worths(value)])
+
+
+def long_polytope(seed, dimension, points):
+    """A polytope whose numbers have 40 figures."""
+    source = random.Random(seed)
+    while True:
+        value = (dimension, tuple(
+            tuple(random_told_ratio(source) for _ in range(dimension)) for _ in range(points)
+        ))
+        if facets_by_definition(value) is not None:
+            return value
+
+
+def sets_lacking_some(many):
+    """All sets of so many indexes that lack one of them."""
+    return [lot for size in range(many) for lot in combinations(range(many), size)]
+
+
+def times(told, factor):
+    """A tuple of ratios, each taken so many times."""
+    return tuple(ratio(Fraction(*number) * factor) for number in told)
+
+
+def with_number(told, place, number):
+    return told[:place] + (number,) + told[place + 1:]
+
+
 def worths(polytope):
     return [[Fraction(*number) for number in point] for point in polytope[1]]
 

@@ -15,7 +15,7 @@ from facenumbers.rings import base_of, forms_of, rank_of, taken, told_by
 from facenumbers.rows import face_row, g_row
 from tests.examples import (
     CROSS, JUNK, OCTA, SQUARE, TOPS, cyclic, determinant, is_plain, pointed, random_told_ratio, random_values, rank,
-    ratio, simplex, some_polytopes, stacked, worths,
+    ratio, shuffled, simplex, some_polytopes, stacked, worths,
 )
 from tests.test_faces import NO_POLYTOPES, raised
 
@@ -36,12 +36,6 @@ def many_polytopes():
         for row in rows_with(dimension, points)[::4]:
             found[f"made {dimension} {row}"] = made(dimension, row)
     return found
-
-
-def shuffled(value, seed):
-    points = list(value[1])
-    random.Random(seed).shuffle(points)
-    return (value[0], tuple(points))
 
 
 def g_of(value):
