@@ -3,11 +3,9 @@
 from facenumbers.errors import InvalidFace, InvalidNumber, InvalidPolytope, InvalidRow, InvalidSequence
 from facenumbers.hulls import facets_or_none
 from facenumbers.values import (
-    MOST_POINTS_BEYOND, is_dimension, is_index_set, is_row, is_whole_between,
+    MOST_POINTS_BEYOND, SEQUENCE_LIMIT, has_sequence_length, is_dimension, is_index_set, is_lacking_set, is_row,
+    is_wanted_row, is_whole_between,
 )
-
-MOST_NUMBERS = 8
-SEQUENCE_LIMIT = 10 ** 6
 
 
 def checked_facets(polytope):
@@ -39,8 +37,7 @@ def check_row(dimension, row):
 
 def check_wanted_row(dimension, row):
     """A row that a polytope could have, as far as its number of points is concerned."""
-    check_row(dimension, row)
-    if not dimension + 1 <= row[0] <= dimension + MOST_POINTS_BEYOND:
+    if not is_wanted_row(row, dimension):
         raise InvalidRow(row)
 
 
@@ -58,13 +55,12 @@ def check_facet(polytope, facets, facet):
 
 def check_lacking_face(polytope, face):
     """A set that lacks some point."""
-    check_face(polytope, face)
-    if len(face) == len(polytope[1]):
+    if not is_lacking_set(face, len(polytope[1])):
         raise InvalidFace(face)
 
 
 def check_sequence(sequence):
-    if not isinstance(sequence, tuple) or not 1 <= len(sequence) <= MOST_NUMBERS:
+    if not has_sequence_length(sequence):
         raise InvalidSequence(None)
     check_all_between(sequence, -SEQUENCE_LIMIT, SEQUENCE_LIMIT)
 

@@ -36,10 +36,7 @@ def compressed(sequence):
     many = sum(sequence)
     if many > MOST_MONOMIALS:
         raise TooMany(many)
-    found = []
-    for degree, number in enumerate(sequence):
-        found.extend(first_monomials(number, degree))
-    return tuple(found)
+    return first_ideal(sequence)
 
 
 def counts_of(variables, ideal):
@@ -55,6 +52,14 @@ def counts_of(variables, ideal):
 
 def check_variables(variables):
     check_number(variables, 0, MOST_VARIABLES)
+
+
+def first_ideal(sequence):
+    """The compressed order ideal of what surely is an M-sequence."""
+    found = []
+    for degree, number in enumerate(sequence):
+        found.extend(first_monomials(number, degree))
+    return tuple(found)
 
 
 def first_monomials(many, degree):

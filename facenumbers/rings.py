@@ -63,6 +63,31 @@ def taken_of_degree(polytope, facets, degree):
     return [order[at] for at in range(len(order)) if at not in spanned][::-1]
 
 
+def is_basis(polytope, facets, chosen, degree):
+    """Whether the chosen monomials of the degree make all others in the ring, as few as can be."""
+    order, rows = relation_rows(polytope, facets, degree)
+    others = [at for at, monomial in enumerate(order) if monomial not in chosen]
+    if len(others) == len(order) and is_full_modulo_prime(rows, len(order)):
+        return True
+    columns = others + [order.index(monomial) for monomial in chosen]
+    # With the others ahead these are the pivots, and no chosen one is, just where it is so.
+    pivots = reduced([[row[at] for at in columns] for row in rows], len(order))[1]
+    return pivots == list(range(len(others)))
+
+
+def is_nought(polytope, facets, polynomial, degree):
+    """Whether a polynomial of the degree, with whole numbers by monomials, is nought in the ring."""
+    order, rows = relation_rows(polytope, facets, degree)
+    if is_full_modulo_prime(rows, len(order)):
+        return True
+    solved, pivots, divisor = reduced(rows, len(order))
+    left = [divisor * polynomial.get(monomial, 0) for monomial in order]
+    for row, pivot in zip(solved, pivots):
+        often = polynomial.get(order[pivot], 0)
+        left = [one - often * two for one, two in zip(left, row)]
+    return not any(left)
+
+
 def variables_of(polytope):
     return len(polytope[1]) - polytope[0] - 1
 

@@ -8,6 +8,8 @@ MOST_POINTS_BEYOND = 4
 MOST_FIGURES = 40
 RATIO_LIMIT = 10 ** 40 - 1
 ROW_LIMIT = 10 ** 9
+MOST_NUMBERS = 8
+SEQUENCE_LIMIT = 10 ** 6
 
 
 def is_whole(value):
@@ -71,6 +73,10 @@ def is_index_set(value, many):
     return True
 
 
+def is_pair_of_wholes(value):
+    return is_tuple_of_length(value, 2) and is_whole(value[0]) and is_whole(value[1])
+
+
 def is_monomial(value, variables):
     """Whether the value is a monomial of any degree in so many variables."""
     if not isinstance(value, tuple):
@@ -83,7 +89,28 @@ def is_monomial(value, variables):
     return True
 
 
+def is_wanted_row(value, dimension):
+    """Whether the value is a row with so many points as a polytope of the dimension may have."""
+    return is_row(value, dimension) and dimension + 1 <= value[0] <= dimension + MOST_POINTS_BEYOND
+
+
+def is_lacking_set(value, many):
+    """Whether the value is a set of indexes that lacks some point."""
+    return is_index_set(value, many) and len(value) < many
+
+
 def is_row(value, dimension):
     return is_tuple_of_length(value, dimension) and all(
         [is_whole_between(number, -ROW_LIMIT, ROW_LIMIT) for number in value]
+    )
+
+
+def has_sequence_length(value):
+    return isinstance(value, tuple) and 1 <= len(value) <= MOST_NUMBERS
+
+
+def is_sequence(value):
+    """Whether the value is a tuple of so many and so great whole numbers as a sequence may have."""
+    return has_sequence_length(value) and all(
+        [is_whole_between(number, -SEQUENCE_LIMIT, SEQUENCE_LIMIT) for number in value]
     )

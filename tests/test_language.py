@@ -124,7 +124,6 @@ class Language(unittest.TestCase):
                 self.assertTrue(docstring or isinstance(node, allowed), (name, node.lineno))
                 self.assertEqual(getattr(node, "decorator_list", []), [], name)
 
-
     def test_no_name_of_an_import_or_a_class_has_another_meaning(self):
         for name, tree in trees().items():
             taken = {alias.name for node in ast.walk(tree) if isinstance(node, ast.ImportFrom) for alias in node.names}
@@ -168,6 +167,51 @@ class Language(unittest.TestCase):
                 if isinstance(node, (ast.For, ast.comprehension)):
                     self.assertNotIsInstance(node.iter, (ast.Set, ast.SetComp), (name, node.iter.lineno))
                     self.assertNotEqual(getattr(getattr(node.iter, "func", None), "id", None), "set", name)
+
+    def test_errors_caught_and_raised(self):
+        own = {node.name for node in trees()["errors"].body if isinstance(node, ast.ClassDef)}
+        for name, tree in trees().items():
+            for node in ast.walk(tree):
+                if isinstance(node, ast.ExceptHandler):
+                    told = node.type.elts if isinstance(node.type, ast.Tuple) else [node.type]
+                    self.assertLessEqual({one.id for one in told}, own | {"KeyError", "ZeroDivisionError"}, name)
+                    self.assertNotIn(node.name, {one.id for one in ast.walk(tree) if isinstance(one, ast.Name)
+                                                 and isinstance(one.ctx, ast.Store)})
+                if isinstance(node, ast.Raise):
+                    self.assertIn(node.exc.func.id, own, name)
+
+    def test_where_sets_stand(self):
+        for name, tree in trees().items():
+            right = set()
+            for node in ast.walk(tree):
+                if isinstance(node, ast.Assign) and isinstance(node.targets[0], ast.Name):
+                    right.add(node.value)
+                elif isinstance(node, ast.Compare) and isinstance(node.ops[0], (ast.In, ast.NotIn)):
+                    right.update(node.comparators)
+                elif isinstance(node, ast.Call) and getattr(node.func, "id", None) in ("sorted", "len"):
+                    right.update(node.args)
+            for node in ast.walk(tree):
+                made = isinstance(node, ast.Call) and getattr(node.func, "id", None) == "set"
+                if made or isinstance(node, (ast.Set, ast.SetComp)):
+                    self.assertIn(node, right, (name, node.lineno))
+
+    def test_strings(self):
+        for name, tree in trees().items():
+            for node in ast.walk(tree):
+                if isinstance(node, ast.Constant) and isinstance(node.value, str):
+                    self.assertNotIn("%", node.value, name)
+                    self.assertNotIn("__", node.value, name)
+
+    def test_tables_hold_functions_of_their_own_file(self):
+        for name, tree in trees().items():
+            above = set()
+            for node in tree.body:
+                if isinstance(node, ast.FunctionDef):
+                    above.add(node.name)
+                elif isinstance(node, ast.Assign):
+                    self.assertEqual(len(node.targets), 1)
+                    used = {one.id for one in ast.walk(node.value) if isinstance(one, ast.Name)}
+                    self.assertLessEqual(used, above, name)
 
 
 if __name__ == "__main__":

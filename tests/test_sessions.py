@@ -46,11 +46,11 @@ class Sessions(unittest.TestCase):
 
     def test_of_the_document(self):
         with open(SESSIONS, encoding="ascii") as file:
-            self.as_told(file.read(), 44)
+            self.as_told(file.read(), 80)
 
     def test_of_the_readme(self):
         with open(README, encoding="ascii") as file:
-            self.as_told("\n".join(file.read().split("```")[1::2]), 7)
+            self.as_told("\n".join(file.read().split("```")[1::2]), 46)
 
 
 if __name__ == "__main__":
